@@ -1,0 +1,1 @@
+"""Flyloft: bars, plates and brakes above a stage."""
