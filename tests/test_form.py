@@ -1,4 +1,4 @@
-"""The form of the package's own files: those rules of LANGUAGE.md that a look at the code can tell."""
+"""The form of the package's own files: some of the rules of LANGUAGE.md, by far not all of them."""
 
 import ast
 import builtins
