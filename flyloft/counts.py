@@ -1,7 +1,8 @@
 """Balance and hold, and the numbers of plates with which a bar is in balance."""
 
-from flyloft.errors import Unbalanced
+from flyloft.errors import Unbalanced, Unheld
 from flyloft.leans import lean_of, pull_of
+from flyloft.parts import parted_up
 
 
 def is_balanced(rig, bar, pieces, plates):
@@ -10,6 +11,11 @@ def is_balanced(rig, bar, pieces, plates):
 
 def is_held(rig, bar, pieces, plates):
     return abs(lean_of(rig, bar, pieces, plates)) <= rig.hold(bar)
+
+
+def ask_held(rig, bar, pieces, plates):
+    if not is_held(rig, bar, pieces, plates):
+        raise Unheld(bar, abs(lean_of(rig, bar, pieces, plates)) - rig.hold(bar))
 
 
 def counts_of(rig, bar, pieces):
@@ -21,10 +27,6 @@ def counts_of(rig, bar, pieces):
     if least > rig.room(bar):
         raise Unbalanced(bar, "room", least - rig.room(bar))
     return (least, min(most, rig.room(bar)))
-
-
-def parted_up(number, parts):
-    return (number + parts - 1) // parts
 
 
 # The number of plates that comes nearest may leave the scenery too heavy or the plates.
