@@ -1,7 +1,7 @@
 """Rigs: the plate, the bars, the pieces and the bays above a stage, read from lines."""
 
 from flyloft.errors import NoName, NoRig
-from flyloft.words import is_name, number_of
+from flyloft.words import is_name, number_within
 
 # Each number of a line: what it tells, its least and its most.
 PLATE_NUMBERS = (("weight", 1, 1_000_000_000_000),)
@@ -123,8 +123,8 @@ def numbers_told(words, bounds):
         return None
     numbers = {}
     for word, bound in zip(words, bounds):
-        number = number_of(word)
-        if number is None or not bound[1] <= number <= bound[2]:
+        number = number_within(word, bound[1], bound[2])
+        if number is None:
             return None
         numbers[bound[0]] = number
     return numbers

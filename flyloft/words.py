@@ -19,5 +19,10 @@ def number_of(text):
     return int(text)
 
 
+def number_within(text, least, most):
+    number = number_of(text)
+    return number if number is not None and least <= number <= most else None
+
+
 def all_between(text, first, last):
     return all([first <= sign <= last for sign in text])

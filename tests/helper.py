@@ -42,3 +42,75 @@ def refusal(case, kind, ask, *arguments):
 
 def dice_of(seed):
     return random.Random(seed)
+
+
+def any_bays(dice, ats, many):
+    """Lines of bays: bars whose AT rises, some or all of them."""
+    lines = []
+    for number in range(many):
+        rising = []
+        for bar in sorted(dice.sample(sorted(ats), dice.randint(2, max(2, len(ats)))), key=lambda bar: ats[bar]):
+            if not rising or ats[bar] > ats[rising[-1]]:
+                rising.append(bar)
+        if len(rising) > 1:
+            lines.append(f"bay {LETTERS[number]} {' '.join(rising)}")
+    return lines
+
+
+def any_rig(dice, pieces=6, plate=(1, 12), weight=(1, 30), drop=(0, 4), slack=(0, 12), top=(6, 60)):
+    """A rig of one to eight bars in any order, with bays among those that do not begin at like heights."""
+    names = dice.sample(LETTERS[:8], dice.randint(1, 8))
+    spread = dice.choice([8, 12, 30])
+    ats, lines = {}, [f"plate {dice.randint(*plate)}"]
+    for name in names:
+        tall = dice.randint(*top)
+        ats[name] = dice.randint(0, min(tall, spread))
+        slack_of = dice.randint(*slack)
+        hold = slack_of + dice.choice([0, 10, 40, 100])
+        lines.append(bar_line(name, tall, ats[name], dice.choice([0, 3, 20, 60]), dice.randint(1, 2), slack_of, hold))
+    for number in range(dice.randint(0, pieces)):
+        lines.append(f"piece {LETTERS[number]} {dice.randint(*weight)} {dice.randint(*drop)}")
+    if len(names) > 1:
+        lines += any_bays(dice, ats, dice.randint(0, 4))
+    return Rig(lines)
+
+
+def below_of(rig, bar):
+    """The bars next below this one, in all bays."""
+    found = []
+    for bay in rig.bays():
+        bars = rig.bay(bay)
+        found += [low for low, high in zip(bars, bars[1:]) if high == bar]
+    return found
+
+
+def is_clear(rig, heights, drops):
+    if any(heights[bar] > rig.top(bar) or heights[bar] < drops[bar] for bar in rig.bars()):
+        return False
+    return all(heights[bar] - drops[bar] > heights[low] for bar in rig.bars() for low in below_of(rig, bar))
+
+
+def any_clear(dice, rig, drops, spread):
+    """Heights that are clear, each at most so much higher than it must be; None where the dice find none."""
+    heights = {}
+    for bar in sorted(rig.bars(), key=rig.at):
+        least = max([drops[bar]] + [heights[low] + drops[bar] + 1 for low in below_of(rig, bar)])
+        if least > rig.top(bar):
+            return None
+        heights[bar] = min(rig.top(bar), least + dice.randint(0, spread))
+    return heights if is_clear(rig, heights, drops) else None
+
+
+def any_deed(dice, loft):
+    """Mostly deeds that might be done, some that never can be."""
+    rig = loft.rig()
+    bars, pieces = [*rig.bars()] * 9 + ["other"], [*rig.pieces()] * 9 + ["none"]
+    word = dice.choice(["brake", "loose", "hang", "strike", "put", "put", "lift", "turn", "turn"])
+    if word in ("hang", "strike"):
+        return (word, dice.choice(bars), dice.choice(pieces))
+    if word != "turn":
+        return (word, dice.choice(bars))
+    loose = [bar for bar in rig.bars() if not loft.braked(bar)]
+    some = dice.sample(loose or rig.bars(), 1) if dice.randint(0, 3) else dice.sample(bars, 2)
+    some = dice.sample(loose, dice.randint(1, len(loose))) if loose and dice.randint(0, 1) else some
+    return ("turn", [(bar, dice.choice([1, -1])) for bar in dict.fromkeys(some)])
