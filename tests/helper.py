@@ -3,6 +3,7 @@
 import copy
 import random
 
+from flyloft.lofts import Loft
 from flyloft.rigs import Rig
 
 LETTERS = "abcdefghijklmnop"
@@ -114,3 +115,58 @@ def any_deed(dice, loft):
     some = dice.sample(loose or rig.bars(), 1) if dice.randint(0, 3) else dice.sample(bars, 2)
     some = dice.sample(loose, dice.randint(1, len(loose))) if loose and dice.randint(0, 1) else some
     return ("turn", [(bar, dice.choice([1, -1])) for bar in dict.fromkeys(some)])
+
+
+def any_load(dice, loft):
+    """A load whose pieces are free, mostly."""
+    rig = loft.rig()
+    bars = dice.sample(rig.bars(), min(len(rig.bars()), dice.randint(1, 3)))
+    free = loft.dock()
+    dice.shuffle(free)
+    rows, used = [], set()
+    for bar in bars:
+        wanted = free[:dice.randint(0, 2)] + some_of(dice, loft.hanging(bar))
+        if not dice.randint(0, 6):
+            wanted += some_of(dice, rig.pieces())
+        pieces = [piece for piece in dict.fromkeys(wanted) if piece not in used]
+        dice.shuffle(pieces)
+        used.update(pieces)
+        free = [piece for piece in free if piece not in used]
+        rows.append((bar, tuple(pieces)))
+    return ("load", tuple(rows))
+
+
+def any_flight(dice, loft):
+    """A flight to heights that are clear, mostly, in turns that are enough, mostly."""
+    rig = loft.rig()
+    heights = any_clear(dice, rig, loft.drops(), dice.choice([0, 2, 8])) or loft.heights()
+    bars = rig.bars() if dice.randint(0, 1) else dice.sample(rig.bars(), dice.randint(1, len(rig.bars())))
+    goal = {bar: heights[bar] for bar in bars}
+    if not dice.randint(0, 5):
+        goal[dice.choice(bars)] = dice.randint(0, 60)
+    turns = dice.choice([0, 3, 20, 60, 500, 500, 500])
+    return ("fly", dice.randint(1, 8), turns, tuple(goal.items()))
+
+
+def any_cue(dice, loft):
+    return any_load(dice, loft) if dice.randint(0, 2) else any_flight(dice, loft)
+
+
+def shadow(loft):
+    """Another loft in the same state."""
+    other = Loft(loft.rig())
+    for deed in loft.log():
+        other.do(deed)
+    return other
+
+
+def is_safe(loft):
+    """What point 3 says of every moment."""
+    rig = loft.rig()
+    for bar in rig.bars():
+        pull = rig.pull(bar) * sum(rig.weight(piece) for piece in loft.hanging(bar))
+        bound = rig.hold(bar) if loft.braked(bar) else rig.slack(bar)
+        if abs(pull - loft.plates(bar) * rig.plate()) > bound:
+            return False
+    drops = {bar: max([0] + [rig.drop(piece) for piece in loft.hanging(bar)]) for bar in rig.bars()}
+    return is_clear(rig, loft.heights(), drops)
