@@ -170,3 +170,9 @@ def is_safe(loft):
             return False
     drops = {bar: max([0] + [rig.drop(piece) for piece in loft.hanging(bar)]) for bar in rig.bars()}
     return is_clear(rig, loft.heights(), drops)
+
+
+def balancing(rig, bar, pieces):
+    """The numbers of plates that balance the bar, tried one by one."""
+    pull = rig.pull(bar) * sum(rig.weight(piece) for piece in pieces)
+    return [count for count in range(rig.room(bar) + 1) if abs(pull - count * rig.plate()) <= rig.slack(bar)]

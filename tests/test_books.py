@@ -40,8 +40,9 @@ NO_LOADS = [
     "load", "load tree", "load other", "load LOW", "load low other", "load low high", "load low tree other",
     "load other tree", "load low / other", "load low / tree", "load low / low", "load low tree / low moon",
     "load low / high / low", "load low tree tree", "load low tree moon tree", "load low tree / high tree",
-    "load low tree / high / fly moon tree", "load / low", "load /", "load low /", "load low tree /", "load low / / high",
-    "load low tree / / high moon", "load / low / high", "load low/ high", "load low /high", "load low/high",
+    "load low tree / high / fly moon tree", "load / low", "load /", "load low /", "load low tree /",
+    "load low / / high", "load low tree / / high moon", "load / low / high", "load low/ high", "load low /high",
+    "load low/high",
     "load low 5", "load low tree, moon", "load low // high",
 ]
 NO_CUES = [

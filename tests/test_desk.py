@@ -199,7 +199,8 @@ class Refused(Case):
         for rest, number in (
             ("", 0), (" ", 0), ("nonsense", 0), ("plate 10", None), (" plate 10", 0), ("plate 10;bar a 1 0 0 1 0 0", 0),
             ("plate 10; bar a 1 0 0 1 0 0; ", 2), ("plate 10;  bar a 1 0 0 1 0 0", 1), ("; plate 10", 0),
-            ("plate 10 ; bar a 1 0 0 1 0 0", 0), ("plate 10; bar a 1 0 0 1 0 0;", 1), ("plate 10; ; bar a 1 0 0 1 0 0", 1),
+            ("plate 10 ; bar a 1 0 0 1 0 0", 0), ("plate 10; bar a 1 0 0 1 0 0;", 1),
+            ("plate 10; ; bar a 1 0 0 1 0 0", 1),
             ("plate 10; bar a 1 0 0 1 0 0; bar a 1 0 0 1 0 0", 2), ("bar a 1 0 0 1 0 0", None), ("piece a 1 0", None),
         ):
             with self.subTest(rest=rest):

@@ -9,7 +9,7 @@ from flyloft.errors import LoftError
 from flyloft.rigs import Rig
 from flyloft.shows import Show
 from flyloft.tallies import first_refused, shown_by, tally
-from helper import any_cue, any_rig, dice_of
+from helper import any_cue, any_rig, balancing, dice_of
 
 RIG = Rig([
     "plate 10",
@@ -26,11 +26,6 @@ BOOK = read_book(RIG, [
     "fly 1 0 low 6", "load low", "load low",
 ])
 WRONG = read_book(RIG, ["fly 1 500 low 60"])
-
-
-def balancing(rig, bar, pieces):
-    pull = rig.pull(bar) * sum(rig.weight(piece) for piece in pieces)
-    return [count for count in range(rig.room(bar) + 1) if abs(pull - count * rig.plate()) <= rig.slack(bar)]
 
 
 def any_book(dice, rig, many):
